@@ -1,0 +1,1 @@
+"""Eitherbook: statements of two each over switches, roads, settings, and what follows."""
