@@ -1,7 +1,6 @@
 import unittest
 
 from eitherbook.steps import clash, road, steps_from
-from eitherbook.told import good
 from tests import plain
 
 
@@ -168,7 +167,7 @@ class Clash(unittest.TestCase):
         self.assertEqual({bool(plain.good_settings(many, pile)) for many, pile in piles}, {True, False})
         for many, pile in piles:
             with self.subTest(many=many, pile=pile):
-                if any(good(pile, setting) for setting in plain.all_settings(many)):
+                if plain.good_settings(many, pile):
                     self.assertIsNone(clash(many, pile))
                 else:
                     self.check_ring(many, pile)
