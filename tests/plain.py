@@ -1,5 +1,6 @@
 """What the tests hold the program against: plain goings-through, and piles that are the same at every run."""
 
+import functools
 import itertools
 
 
@@ -57,6 +58,33 @@ def is_ring(pile, lits):
     return is_road(pile, lits) and lits[0] == lits[-1] and any(-lit in lits for lit in lits)
 
 
+def against(many, pile, say):
+    return first([setting for setting in good_settings(many, pile) if not say_true(say, setting)])
+
+
+def settled(many, pile):
+    fitting = good_settings(many, pile)
+    return [lit for lit in all_lits(many) if all(lit_true(lit, setting) for setting in fitting)]
+
+
+def shows(pile, say, some_good, answer):
+    """Whether `answer` is what point 8 asks for where the statement follows, its road or ring walked."""
+    kind, lits = answer
+    if some_good:
+        return kind == "road" and is_road(pile, lits) and -lits[0] in say and lits[-1] in say
+    return kind == "ring" and is_ring(pile, lits)
+
+
+def thinned(pile, follows):
+    """Point 10, with `follows(others, say)` telling what follows."""
+    still_there = dict(enumerate(pile))
+    for place, say in enumerate(pile):
+        del still_there[place]
+        if not follows(list(still_there.values()), say):
+            still_there[place] = say
+    return [still_there[place] for place in sorted(still_there)]
+
+
 class Draws:
     """Numbers that look thrown, but are the same at every run and on every Python."""
 
@@ -101,6 +129,26 @@ def shifted(lit, by):
     return lit + by if lit > 0 else lit - by
 
 
+@functools.lru_cache(maxsize=None)
+def block_good_settings(part):
+    return good_settings(4, part)
+
+
+def block_of(say):
+    return (abs(say[0]) - 1) // 4
+
+
+def follows_in_blocks(pile, say):
+    """What follows from a pile over 60 switches, where every statement keeps to one block of four switches."""
+    parts = [[] for block in range(15)]
+    for other in pile:
+        block = block_of(other)
+        parts[block].append(tuple(shifted(lit, -4 * block) for lit in other))
+    fitting = [block_good_settings(tuple(part)) for part in parts]
+    asked = tuple(shifted(lit, -4 * block_of(say)) for lit in say)
+    return [] in fitting or all(say_true(asked, setting) for setting in fitting[block_of(say)])
+
+
 class Blocks:
     """A pile of 400 over 60 switches, in 15 blocks of four switches that no statement joins.
 
@@ -132,6 +180,13 @@ class Blocks:
                 return None
             answer.extend(fitting[0])
         return answer
+
+    def settled(self):
+        lits = []
+        for block, settings in enumerate(self.good):
+            lits.extend(shifted(lit, 4 * block) for lit in all_lits(4)
+                        if all(lit_true(lit, setting) for setting in settings))
+        return lits
 
     def next_good(self, setting):
         cut = [setting[4 * block:4 * block + 4] for block in range(15)]

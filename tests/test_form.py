@@ -62,6 +62,37 @@ class Form(unittest.TestCase):
                     self.assertEqual(node.decorator_list, [], name)
                     self.assertLessEqual(node.end_lineno - node.lineno + 1, 40, name)
 
+    def test_texts(self):
+        for name, text in TEXTS:
+            for node in ast.walk(ast.parse(text)):
+                if isinstance(node, ast.Constant) and isinstance(node.value, str):
+                    self.assertNotIn("%", node.value, name)
+                if isinstance(node, ast.FormattedValue):
+                    self.assertIsInstance(node.value, ast.Name, name)
+                    self.assertIn(node.conversion, (-1, ord("r")), name)
+                    self.assertIsNone(node.format_spec, name)
+
+    def test_no_name_is_a_method_and_a_value_of_an_object(self):
+        methods, values = [], []
+        for name, text in TEXTS:
+            for node in ast.walk(ast.parse(text)):
+                if isinstance(node, ast.ClassDef):
+                    methods.extend(part.name for part in node.body if isinstance(part, ast.FunctionDef))
+                if isinstance(node, ast.Attribute) and isinstance(node.ctx, ast.Store):
+                    values.append(node.attr)
+        self.assertEqual(sorted(set(methods) & set(values)), [])
+
+    def test_no_file_draws_from_itself_in_whatever_many_steps(self):
+        drawn = {}
+        for name, text in TEXTS:
+            own = "eitherbook." + name[:-len(".py")]
+            drawn[own] = [node.module for node in ast.walk(ast.parse(text)) if isinstance(node, ast.ImportFrom)]
+        while drawn:
+            free = [own for own in drawn if not any(module in drawn for module in drawn[own])]
+            self.assertNotEqual(free, [], drawn)
+            for own in free:
+                del drawn[own]
+
     def test_python_s_own_names(self):
         others = [name for name in dir(builtins) if name not in OWN_NAMES]
         for name, text in TEXTS:
